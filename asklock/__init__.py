@@ -1,0 +1,1 @@
+"""Asklock: locks asked for over several houses, and rings of waiting."""
