@@ -95,6 +95,16 @@ class Table:
         """Tell how many locks there are."""
         return len(self.holders)
 
+    def twin(self):
+        """Tell another table that stands alike and has nothing in common with this one."""
+        other = Table(len(self.wanted), len(self.holders))
+        other.wanted = list(self.wanted)
+        other.wait_numbers = list(self.wait_numbers)
+        other.holders = list(self.holders)
+        other.hold_numbers = list(self.hold_numbers)
+        other.queues = [list(queue) for queue in self.queues]
+        return other
+
     def check_agent(self, agent):
         """Refuse a number that no agent has."""
         if not 0 <= agent < len(self.wanted):

@@ -1,8 +1,12 @@
-"""What the tests of tables share: all that a table tells, and refusals by it."""
+"""What the tests share: all that a table or a hall tells, refusals by it, a fixed reckoning."""
 
+import copy
 import unittest
 
+from asklock.errors import LockError
 from asklock.tables import Table
+
+THIRTY_FIGURES = 10 ** 30 - 1
 
 
 def all_told(table):
@@ -26,6 +30,39 @@ def table_after(agents, locks, *asked):
     return table
 
 
+def deeds_of(agents, locks):
+    """All deeds over a table of so many agents and locks."""
+    deeds = [("leave", agent) for agent in range(agents)]
+    for word in ("ask", "give"):
+        deeds += [(word, agent, lock) for agent in range(agents) for lock in range(locks)]
+    return deeds
+
+
+def answer(told, deed):
+    """What the table or the hall answers to the deed, or the class of its refusal."""
+    try:
+        return getattr(told, deed[0])(*deed[1:])
+    except LockError as refusal:
+        return type(refusal)
+
+
+def houses_of(hall):
+    """Of each house whether it is up: a copy of the hall is asked to stop it."""
+    up = []
+    while True:
+        refusal = answer(copy.deepcopy(hall), ("stop", len(up)))
+        if refusal is not None and refusal.__name__ == "NoHouse":
+            return up
+        up.append(refusal is None)
+
+
+def all_of(hall):
+    """All that the hall tells, and which of its houses are up."""
+    return (
+        hall.road(), hall.told(), hall.broken(), all_told(hall.table()), houses_of(hall),
+    )
+
+
 class TableCase(unittest.TestCase):
     def assert_refused(self, error, table, deed, *numbers):
         """The deed is refused with just this class, and changes nothing."""
@@ -34,3 +71,27 @@ class TableCase(unittest.TestCase):
             getattr(table, deed)(*numbers)
         self.assertEqual(type(caught.exception), error)
         self.assertEqual(all_told(table), ahead)
+
+
+class HallCase(unittest.TestCase):
+    def assert_refused(self, error, hall, deed, *numbers):
+        """The deed is refused with just this class, and changes nothing."""
+        ahead = all_of(hall)
+        with self.assertRaises(error) as caught:
+            getattr(hall, deed)(*numbers)
+        self.assertEqual(type(caught.exception), error)
+        self.assertEqual(all_of(hall), ahead)
+
+
+class Reckoning:
+    """A plain rule of sums that stands for chance, so that each run is alike."""
+
+    def __init__(self, number):
+        self.number = number
+
+    def below(self, count):
+        self.number = (self.number * 6364136223846793005 + 1442695040888963407) & (2 ** 64 - 1)
+        return (self.number >> 33) % count
+
+    def one_of(self, rows):
+        return rows[self.below(len(rows))]

@@ -25,6 +25,38 @@ TABLE_METHODS = {
     "locks": [],
 }
 
+HALL_METHODS = {
+    "ask": ["agent", "lock"],
+    "give": ["agent", "lock"],
+    "again": [],
+    "carry": ["number"],
+    "lose": ["number"],
+    "double": ["number"],
+    "stop": ["house"],
+    "rise": ["house"],
+    "road": [],
+    "told": [],
+    "broken": [],
+    "table": [],
+}
+
+CLASSES = (
+    ("tables.py", "Table", ["agents", "locks"], TABLE_METHODS),
+    ("halls.py", "Hall", ["agents", "locks", "houses"], HALL_METHODS),
+)
+
+FUNCTIONS = {
+    "rings.py": {
+        "chain": ["table", "agent"],
+        "rings": ["table"],
+        "is_ring": ["table", "some"],
+        "least": ["table"],
+    },
+    "books.py": {
+        "played": ["agents", "locks", "houses", "book"],
+    },
+}
+
 
 def parsed(name):
     return ast.parse((PACKAGE / name).read_text(encoding="utf-8"))
@@ -42,14 +74,24 @@ class Interface(unittest.TestCase):
     def test_errors_are_defined_in_their_file(self):
         self.assertEqual(set(classes_of("errors.py")), ERRORS)
 
-    def test_table_defines_each_method_itself(self):
-        table = classes_of("tables.py")["Table"]
-        defined = {row.name: row for row in table.body if isinstance(row, ast.FunctionDef)}
-        self.assertEqual(parameters_of(defined["__init__"]), ["self", "agents", "locks"])
-        for name, parameters in TABLE_METHODS.items():
-            with self.subTest(name):
-                self.assertIn(name, defined)
-                self.assertEqual(parameters_of(defined[name]), ["self", *parameters])
+    def test_classes_define_each_method_themselves(self):
+        for file, name, counts, methods in CLASSES:
+            body = classes_of(file)[name].body
+            defined = {row.name: row for row in body if isinstance(row, ast.FunctionDef)}
+            self.assertEqual(parameters_of(defined["__init__"]), ["self", *counts])
+            for method, parameters in methods.items():
+                with self.subTest(name, method=method):
+                    self.assertIn(method, defined)
+                    self.assertEqual(parameters_of(defined[method]), ["self", *parameters])
+
+    def test_functions_are_defined_in_their_files(self):
+        for file, functions in FUNCTIONS.items():
+            body = parsed(file).body
+            defined = {row.name: row for row in body if isinstance(row, ast.FunctionDef)}
+            for function, parameters in functions.items():
+                with self.subTest(file, function=function):
+                    self.assertIn(function, defined)
+                    self.assertEqual(parameters_of(defined[function]), parameters)
 
 
 class NothingFromOutside(unittest.TestCase):

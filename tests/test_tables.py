@@ -5,9 +5,8 @@ import unittest
 from asklock.errors import Holds, NoAgent, NoLock, NoTable, NotHeld, Waits
 from asklock.tables import Table
 
-from tellings import TableCase, all_told, table_after
+from tellings import THIRTY_FIGURES, TableCase, all_told, table_after
 
-THIRTY_FIGURES = 10 ** 30 - 1
 OF_AN_AGENT = ("leave", "waits", "held", "wait_number")
 OF_A_LOCK = ("holder", "queue", "hold_number")
 OF_BOTH = ("ask", "give")
