@@ -3,10 +3,17 @@
 import copy
 import unittest
 
-from asklock.errors import LockError
+from asklock.errors import LockError, NoHouse
+from asklock.halls import Hall
 from asklock.tables import Table
 
 THIRTY_FIGURES = 10 ** 30 - 1
+
+NO_COUNTS = {
+    "agents": (0, 9, 10, -1, -8, THIRTY_FIGURES, -THIRTY_FIGURES),
+    "locks": (0, 13, 14, -1, -12, THIRTY_FIGURES, -THIRTY_FIGURES),
+    "houses": (0, 5, 6, -1, -4, THIRTY_FIGURES, -THIRTY_FIGURES),
+}
 
 
 def all_told(table):
@@ -38,6 +45,19 @@ def deeds_of(agents, locks):
     return deeds
 
 
+def hall_after(agents, locks, houses, *asked):
+    """A new hall in which agents have asked for locks, in turn."""
+    hall = Hall(agents, locks, houses)
+    for agent, lock in asked:
+        hall.ask(agent, lock)
+    return hall
+
+
+def kinds_on(hall):
+    """Of each letter on the road its kind."""
+    return [letter[0] for letter in hall.road()]
+
+
 def answer(told, deed):
     """What the table or the hall answers to the deed, or the class of its refusal."""
     try:
@@ -49,11 +69,21 @@ def answer(told, deed):
 def houses_of(hall):
     """Of each house whether it is up: a copy of the hall is asked to stop it."""
     up = []
-    while True:
-        refusal = answer(copy.deepcopy(hall), ("stop", len(up)))
-        if refusal is not None and refusal.__name__ == "NoHouse":
-            return up
+    for house in range(10):
+        refusal = answer(copy.deepcopy(hall), ("stop", house))
+        if refusal == NoHouse:
+            break
         up.append(refusal is None)
+    return up
+
+
+def until(holds):
+    """Go round until it holds; if it never does, the test fails and doesn't hang."""
+    for turn in range(5000):
+        if holds():
+            return
+        yield turn
+    raise AssertionError("it never holds")
 
 
 def all_of(hall):

@@ -8,8 +8,7 @@ from asklock.halls import Hall
 
 from hall_deeds import SIZES, drawn, first_of
 from plain import PlainHall
-from tellings import Reckoning, all_of
-from test_halls import NO_COUNTS
+from tellings import NO_COUNTS, Reckoning, all_of
 
 RING = ["ask 0 0", "ask 1 1", "ask 2 2", "ask 0 1", "ask 1 2", "lose 0", "lose 0", "ask 2 0"]
 

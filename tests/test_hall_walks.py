@@ -8,7 +8,7 @@ from asklock.rings import is_ring, rings
 
 from hall_deeds import SIZES, drawn, first_of
 from plain import PlainHall
-from tellings import Reckoning, all_of, answer
+from tellings import Reckoning, all_of, answer, until
 
 
 def agents_of(path):
@@ -102,7 +102,7 @@ class WhateverWasDone(unittest.TestCase):
         standing = [path_of_ring(table, ring) for ring in rings(table)]
         many_broken = len(hall.broken())
         self.do(hall, ("again",))
-        while hall.road():
+        for turn in until(lambda: not hall.road()):
             self.do(hall, ("carry", 0))
         self.assertEqual(rings(hall.table()), [])
         broken = hall.broken()[many_broken:]
@@ -154,7 +154,7 @@ class WhateverWasDone(unittest.TestCase):
             self.do(hall, ("ask", agent, lock))
         self.do(hall, ("stop", 1))
         self.do(hall, ("again",))
-        while hall.road():
+        for turn in until(lambda: not hall.road()):
             self.do(hall, ("carry", 0))
         self.assertEqual((hall.told(), hall.broken()), ([], []))
         self.assertEqual(self.end(hall, 3), 1)
@@ -163,7 +163,7 @@ class WhateverWasDone(unittest.TestCase):
         hall = Hall(2, 2, 2)
         for agent, lock in ((0, 0), (1, 1), (0, 1), (1, 0)):
             self.do(hall, ("ask", agent, lock))
-        while not hall.told():
+        for turn in until(hall.told):
             self.do(hall, ("carry", 0))
         self.do(hall, ("lose", len(hall.road()) - 1))
         self.assertEqual(self.end(hall, 2), 1)

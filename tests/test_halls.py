@@ -10,26 +10,9 @@ from asklock.rings import least, rings
 from asklock.tables import Table
 
 from tellings import (
-    THIRTY_FIGURES, HallCase, Reckoning, all_of, all_told, answer, deeds_of, houses_of,
+    NO_COUNTS, THIRTY_FIGURES, HallCase, Reckoning, all_of, all_told, answer, deeds_of, hall_after,
+    houses_of, kinds_on, until,
 )
-
-NO_COUNTS = {
-    "agents": (0, 9, 10, -1, -8, THIRTY_FIGURES, -THIRTY_FIGURES),
-    "locks": (0, 13, 14, -1, -12, THIRTY_FIGURES, -THIRTY_FIGURES),
-    "houses": (0, 5, 6, -1, -4, THIRTY_FIGURES, -THIRTY_FIGURES),
-}
-
-
-def hall_after(agents, locks, houses, *asked):
-    """A new hall in which agents have asked for locks, in turn."""
-    hall = Hall(agents, locks, houses)
-    for agent, lock in asked:
-        hall.ask(agent, lock)
-    return hall
-
-
-def kinds_on(hall):
-    return [letter[0] for letter in hall.road()]
 
 
 class Counts(HallCase):
@@ -268,7 +251,7 @@ class ToldLists(HallCase):
 
     def busy_hall(self):
         hall = hall_after(3, 3, 1, (0, 0), (1, 1), (2, 2), (0, 1), (1, 0))
-        while not hall.broken():
+        for turn in until(hall.broken):
             hall.carry(0)
         hall.ask(2, 0)
         hall.ask(0, 1)
@@ -298,7 +281,7 @@ class ToldLists(HallCase):
         hall = hall_after(2, 2, 1, (0, 0), (1, 1), (0, 1))
         road, told, broken = hall.road(), hall.told(), hall.broken()
         hall.ask(1, 0)
-        while hall.road():
+        for turn in until(lambda: not hall.road()):
             hall.carry(0)
         self.assertEqual((road, told, broken), ([("who", ((0, 1, 1),), 1)], [], []))
 
@@ -340,7 +323,7 @@ class ToldLists(HallCase):
         ahead = all_told(table)
         hall.ask(1, 0)
         self.assertEqual(all_told(table), ahead)
-        while hall.road():
+        for turn in until(lambda: not hall.road()):
             hall.carry(0)
             self.assertEqual(all_told(table), ahead)
         for deed in deeds_of(3, 3):
@@ -371,7 +354,7 @@ class ToldLists(HallCase):
         first, second = Hall(2, 2, 2), Hall(2, 2, 2)
         for deed in (("ask", 0, 0), ("ask", 1, 1), ("ask", 0, 1), ("ask", 1, 0)):
             getattr(first, deed[0])(*deed[1:])
-        while first.road():
+        for turn in until(lambda: not first.road()):
             first.carry(0)
         first.again()
         first.stop(1)
@@ -399,7 +382,7 @@ class Kinds(HallCase):
     def test_each_carry_of_a_whole_ring_tells_none(self):
         hall = hall_after(2, 2, 2, (0, 0), (1, 1), (0, 1), (1, 0))
         hall.double(0)
-        while hall.road():
+        for turn in until(lambda: not hall.road()):
             self.assertIsNone(hall.carry(0))
         self.assertTrue(hall.broken())
 

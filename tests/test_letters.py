@@ -6,12 +6,13 @@ from asklock.errors import NoLetter
 from asklock.halls import Hall
 from asklock.rings import rings
 
-from tellings import THIRTY_FIGURES, HallCase, all_of, all_told, answer, houses_of
-from test_halls import hall_after
+from tellings import (
+    THIRTY_FIGURES, HallCase, all_of, all_told, answer, hall_after, houses_of, kinds_on, until,
+)
 
 
 def lose_all(hall):
-    while hall.road():
+    for turn in until(lambda: not hall.road()):
         hall.lose(0)
 
 
@@ -137,7 +138,7 @@ class WholeRings(LetterCase):
                 if agent != kept:
                     hall.lose(agent)
             self.assertEqual([letter[1] for letter in hall.road()], [((kept, 1, 1),)])
-            while hall.road():
+            for turn in until(lambda: not hall.road()):
                 hall.carry(0)
             self.assertEqual(hall.told(), told)
 
@@ -146,14 +147,14 @@ class WholeRings(LetterCase):
         self.assert_stands(hall, [
             ("who", ((0, 1, 0),), 0), ("who", ((1, 1, 1),), 1), ("who", ((2, 1, 2),), 2),
         ])
-        while hall.road():
+        for turn in until(lambda: not hall.road()):
             hall.carry(0)
         self.assert_stands(hall, [], [(((2, 1, 2), (1, 1, 1)), 1)], [(1, 1)])
         hall.give(2, 2)
         hall.ask(1, 2)
         hall.ask(2, 2)
         hall.ask(1, 0)
-        while hall.road():
+        for turn in until(lambda: not hall.road()):
             hall.carry(0)
         path = ((2, 2, 2), (1, 2, 1))
         self.assertEqual(hall.told()[1:], [(path, 1)])
@@ -165,7 +166,7 @@ class Weights(LetterCase):
 
     def broken_of(self, *weights):
         hall = ring_hall(1, *weights)
-        while not hall.broken():
+        for turn in until(hall.broken):
             hall.carry(0)
         self.assertEqual(hall.told(), [(path_of(*weights), hall.broken()[0][0])])
         return hall.broken()
@@ -272,7 +273,7 @@ class IsLetters(LetterCase):
         hall.ask(2, 0)
         hall.carry(0)
         hall.double(0)
-        while not hall.broken():
+        for turn in until(hall.broken):
             hall.carry(1)
         self.assertEqual(hall.broken(), [(2, 1)])
         self.assertIsNone(hall.give(1, 0))
@@ -347,14 +348,14 @@ class IsLetters(LetterCase):
 
     def test_the_first_agent_waits_no_more(self):
         hall = self.closed_hall()
-        while not hall.broken():
+        for turn in until(hall.broken):
             hall.carry(1)
         self.assertEqual(hall.broken(), [(0, 1)])
         self.assert_nothing_more(hall)
 
     def test_the_first_agent_waits_by_another_wait_number(self):
         hall = self.closed_hall()
-        while not hall.broken():
+        for turn in until(hall.broken):
             hall.carry(1)
         hall.ask(0, 2)
         hall.ask(1, 2)
@@ -379,7 +380,7 @@ class StillLetters(LetterCase):
         """A hall with a ring of three and two letters still for the place."""
         hall = ring_hall(1, 1, 1, 1)
         carry_first(hall, 6)
-        while hall.road()[0][2] != place:
+        for turn in until(lambda: hall.road()[0][2] == place):
             hall.carry(0)
         hall.double(0)
         letter = ("still", path_of(1, 1, 1), place)
@@ -389,7 +390,7 @@ class StillLetters(LetterCase):
     def broken_hall(self, place):
         """The same, when agent 0 was broken by one of the letters."""
         hall = self.still_hall(place)
-        while not hall.broken():
+        for turn in until(hall.broken):
             hall.carry(1)
         self.assertEqual(hall.broken(), [(0, 1)])
         return hall
@@ -453,19 +454,19 @@ class StillLetters(LetterCase):
         carry_first(hall, 2)
         lose_all(hall)
         hall.again()
-        while hall.road():
+        for turn in until(lambda: not hall.road()):
             hall.carry(0)
         self.assert_stands(hall, [], [(path_of(1, 1, 1), 0)], [(0, 1)])
 
     def test_one_ring_behind_another_of_the_same_agents_is_told(self):
         hall = ring_hall(1, 1, 1)
-        while hall.road():
+        for turn in until(lambda: not hall.road()):
             hall.carry(0)
         hall.give(1, 0)
         hall.ask(0, 0)
         hall.ask(0, 1)
         hall.ask(1, 0)
-        while hall.road():
+        for turn in until(lambda: not hall.road()):
             hall.carry(0)
         second = ((1, 2, 1), (0, 2, 1))
         self.assert_stands(hall, [], [(path_of(1, 1), 0), (second, 0)], [(0, 1), (0, 2)])
@@ -491,7 +492,7 @@ class BreakLetters(LetterCase):
     def break_hall(self):
         """A hall with a ring of two and two letters to break agent 0."""
         hall = ring_hall(1, 1, 1)
-        while [letter[0] for letter in hall.road()] != ["break"]:
+        for turn in until(lambda: kinds_on(hall) == ["break"]):
             hall.carry(0)
         hall.double(0)
         self.assertEqual(hall.road(), [("break", 0, 1), ("break", 0, 1)])
@@ -522,7 +523,7 @@ class BreakLetters(LetterCase):
         hall = hall_after(3, 8, 4, (0, 0), (0, 1), (0, 6), (1, 5), (1, 2), (1, 3), (2, 6), (0, 5))
         lose_all(hall)
         hall.ask(1, 0)
-        while [letter[0] for letter in hall.road()] != ["break"]:
+        for turn in until(lambda: kinds_on(hall) == ["break"]):
             hall.carry(0)
         self.assertEqual(hall.road(), [("break", 0, 1)])
         for house in (1, 2, 3):
@@ -551,18 +552,18 @@ class Lost(LetterCase):
         yield hall, "is", 2
         for place, house in ((1, 0), (2, 1), (3, 2), (0, 3)):
             hall = ring_hall(4, 2, 1, 1, 2)
-            while hall.road()[0][0] != "still" or hall.road()[0][2] != place:
+            for turn in until(lambda: hall.road()[0][::2] == ("still", place)):
                 hall.carry(0)
             yield hall, "still", house
         hall = ring_hall(4, 2, 1, 1, 2)
-        while hall.road()[0][0] != "break":
+        for turn in until(lambda: hall.road()[0][0] == "break"):
             hall.carry(0)
         yield hall, "break", 1
 
     def test_its_house_is_stopped(self):
         for hall, kind, house in self.letters():
             with self.subTest(kind, house=house):
-                self.assertEqual([letter[0] for letter in hall.road()], [kind])
+                self.assertEqual(kinds_on(hall), [kind])
                 hall.stop(house)
                 self.assert_nothing_more(hall)
 
@@ -728,7 +729,7 @@ class TwoRings(LetterCase):
         self.second = (((2, 1, 1), (1, 1, 1)), 1)
 
     def carry_to_breaks(self):
-        while [letter[0] for letter in self.hall.road()] != ["break", "break"]:
+        for turn in until(lambda: kinds_on(self.hall) == ["break", "break"]):
             self.hall.carry(0)
 
     def test_in_turn(self):
